@@ -1,0 +1,61 @@
+// Package chart: charts of states that live side by side, and a service that many clients share: see DOC.md.
+package chart
+
+import (
+	"chart/api"
+	"chart/outline"
+)
+
+// Check tells whether a text is a chart (P3).
+func Check(text string) (api.Errno, int) {
+	o := outline.Read(text)
+	return o.Err, o.Fault
+}
+
+// Tree tells which states a chart has (P4).
+func Tree(text string) ([]api.Node, api.Errno) {
+	o := outline.Read(text)
+	if o.Err != api.OK {
+		return nil, o.Err
+	}
+	nodes := make([]api.Node, len(o.States))
+	for i := 0; i < len(nodes); i++ {
+		nodes[i] = nodeOf(o.States[i])
+	}
+	return nodes, api.OK
+}
+
+func nodeOf(s outline.State) api.Node {
+	return api.Node{Name: string([]byte{s.Name}), Kind: s.Kind, Parent: s.Parent}
+}
+
+// Legal tells whether a state is one of a chart's (P5).
+func Legal(text string, s api.State) api.Errno { return api.OK }
+
+// Start tells how a chart begins (P6).
+func Start(text string) (api.State, string, api.Errno) { return api.State{}, "", api.OK }
+
+// Fire tells how a chart stands behind an event (P7).
+func Fire(text string, s api.State, event string) (api.State, string, api.Errno) {
+	return api.State{}, "", api.OK
+}
+
+// Wait tells how a chart stands behind a tick (P8).
+func Wait(text string, s api.State) (api.State, string, api.Errno) {
+	return api.State{}, "", api.OK
+}
+
+// Service is a running chart that several clients share.
+type Service struct{}
+
+// New makes a service (P9).
+func New(text string, clients int) (*Service, api.Errno) { return nil, api.OK }
+
+// Ask lays down a client's request (P10).
+func (x *Service) Ask(u int, r api.Request) api.Errno { return api.OK }
+
+// Step does the next small step of a client's request (P11).
+func (x *Service) Step(u int) (api.Reply, bool, api.Errno) { return api.Reply{}, false, api.OK }
+
+// Versions tells which versions are kept (P9).
+func (x *Service) Versions() []int { return nil }
