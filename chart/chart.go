@@ -3,7 +3,9 @@ package chart
 
 import (
 	"chart/api"
+	"chart/motion"
 	"chart/outline"
+	"chart/stand"
 )
 
 // Check tells whether a text is a chart (P3).
@@ -30,19 +32,67 @@ func nodeOf(s outline.State) api.Node {
 }
 
 // Legal tells whether a state is one of a chart's (P5).
-func Legal(text string, s api.State) api.Errno { return api.OK }
+func Legal(text string, s api.State) api.Errno {
+	c := read(text, s)
+	return c.err
+}
 
 // Start tells how a chart begins (P6).
-func Start(text string) (api.State, string, api.Errno) { return api.State{}, "", api.OK }
+func Start(text string) (api.State, string, api.Errno) {
+	o := outline.Read(text)
+	if o.Err != api.OK {
+		return api.State{}, "", o.Err
+	}
+	first, out, e := motion.Start(&o)
+	if e != api.OK {
+		return api.State{}, "", e
+	}
+	return first.State(&o), out, api.OK
+}
 
 // Fire tells how a chart stands behind an event (P7).
 func Fire(text string, s api.State, event string) (api.State, string, api.Errno) {
-	return api.State{}, "", api.OK
+	c := read(text, s)
+	if c.err != api.OK {
+		return api.State{}, "", c.err
+	}
+	if len(event) != 1 || !outline.IsEvent(event[0]) {
+		return api.State{}, "", api.ErrEvent
+	}
+	after, out, e := motion.Fire(&c.plan, c.now, event[0])
+	if e != api.OK {
+		return api.State{}, "", e
+	}
+	return after.State(&c.plan), out, api.OK
 }
 
 // Wait tells how a chart stands behind a tick (P8).
 func Wait(text string, s api.State) (api.State, string, api.Errno) {
-	return api.State{}, "", api.OK
+	c := read(text, s)
+	if c.err != api.OK {
+		return api.State{}, "", c.err
+	}
+	after, out := motion.Wait(&c.plan, c.now)
+	return after.State(&c.plan), out, api.OK
+}
+
+// standing is a chart and how it stands, or the error of Legal.
+type standing struct {
+	err  api.Errno
+	plan outline.Outline
+	now  stand.Stand
+}
+
+func read(text string, s api.State) standing {
+	o := outline.Read(text)
+	if o.Err != api.OK {
+		return standing{err: o.Err}
+	}
+	now, ok := stand.Take(&o, s)
+	if !ok {
+		return standing{err: api.ErrState}
+	}
+	return standing{plan: o, now: now}
 }
 
 // Service is a running chart that several clients share.

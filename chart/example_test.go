@@ -28,3 +28,32 @@ func ExampleTree() {
 	// A 1 2
 	// B 1 2
 }
+
+func ExampleFire() {
+	const text = "(R(A:a>B)(B^+x1;:a?x<3#k>A))"
+	s, out, e := chart.Start(text)
+	fmt.Printf("%s %d %q %d\n", s.Active, s.X, out, e)
+	for i := 0; i < 2; i++ {
+		s, out, e = chart.Fire(text, s, "a")
+		fmt.Printf("%s %d %q %d\n", s.Active, s.X, out, e)
+	}
+	// Output:
+	// RA 0 "" 0
+	// RB 1 "" 0
+	// RA 1 "k" 0
+}
+
+func ExampleWait() {
+	const text = "(R(A:a@b2>-:b#k>B)(B))"
+	s, out, _ := chart.Start(text)
+	s, out, _ = chart.Fire(text, s, "a")
+	fmt.Printf("%s %q %q\n", s.Active, s.Timers, out)
+	for i := 0; i < 2; i++ {
+		s, out, _ = chart.Wait(text, s)
+		fmt.Printf("%s %q %q\n", s.Active, s.Timers, out)
+	}
+	// Output:
+	// RA "b2" ""
+	// RA "b1" ""
+	// RB "" "k"
+}

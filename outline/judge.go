@@ -2,91 +2,69 @@ package outline
 
 import "chart/api"
 
-// nowhere is the place of a fault that is not there.
-const nowhere = -1
+// fault is an error and its place.
+type fault struct {
+	err api.Errno
+	at  int
+}
 
 // judge looks for faults in a text of the right syntax, in the order in which the
 // errors come before one another.
-func judge(states []State, uses []use) Outline {
-	if len(states) > api.MaxStates {
-		return Outline{Err: api.ErrMany, Fault: states[api.MaxStates].At}
+func (o *Outline) judge(uses []use) fault {
+	if len(o.States) > api.MaxStates {
+		return fault{err: api.ErrMany, at: o.States[api.MaxStates].At}
 	}
-	at := firstTwice(states)
-	if at != nowhere {
-		return Outline{Err: api.ErrTwice, Fault: at}
+	at := o.firstTwice()
+	if at != Nowhere {
+		return fault{err: api.ErrTwice, at: at}
 	}
-	at = firstMisshapen(states)
-	if at != nowhere {
-		return Outline{Err: api.ErrShape, Fault: at}
+	at = o.firstMisshapen()
+	if at != Nowhere {
+		return fault{err: api.ErrShape, at: at}
 	}
-	at = firstUnknown(states, uses)
-	if at != nowhere {
-		return Outline{Err: api.ErrName, Fault: at}
+	at = o.firstUnknown(uses)
+	if at != Nowhere {
+		return fault{err: api.ErrName, at: at}
 	}
-	return Outline{States: states}
+	return fault{}
 }
 
-func firstTwice(states []State) int {
-	for i := 0; i < len(states); i++ {
-		if hasName(states[:i], states[i].Name) {
-			return states[i].At
+func (o *Outline) firstTwice() int {
+	for i := 0; i < len(o.States); i++ {
+		if o.Place(o.States[i].Name) < i {
+			return o.States[i].At
 		}
 	}
-	return nowhere
+	return Nowhere
 }
 
-func firstMisshapen(states []State) int {
-	for i := 0; i < len(states); i++ {
-		if misshapen(states, i) {
-			return states[i].At
+func (o *Outline) firstMisshapen() int {
+	for i := 0; i < len(o.States); i++ {
+		if o.isMisshapen(i) {
+			return o.States[i].At
 		}
 	}
-	return nowhere
+	return Nowhere
 }
 
-func firstUnknown(states []State, uses []use) int {
+func (o *Outline) firstUnknown(uses []use) int {
 	for i := 0; i < len(uses); i++ {
-		if !hasName(states, uses[i].name) {
+		if o.Place(uses[i].name) == Nowhere {
 			return uses[i].at
 		}
 	}
-	return nowhere
+	return Nowhere
 }
 
-func hasName(states []State, name byte) bool {
-	for i := 0; i < len(states); i++ {
-		if states[i].Name == name {
-			return true
-		}
-	}
-	return false
-}
-
-// misshapen asks only for a parallel parent, as a parent that is not in round
+// isMisshapen asks only for a parallel parent, as a parent that is not in round
 // brackets is in square ones; and only for children of what is compound, as a
 // compound state without children has histories alone among its items.
-func misshapen(states []State, i int) bool {
-	switch states[i].Kind {
+func (o *Outline) isMisshapen(i int) bool {
+	switch o.States[i].Kind {
 	case api.History, api.Final:
-		return inParallel(states, states[i].Parent)
+		return o.Kind(o.States[i].Parent) == api.Parallel
 	case api.Parallel, api.Compound:
-		return !hasChild(states, i)
-	}
-	return false
-}
-
-func inParallel(states []State, parent int) bool {
-	if parent < 0 || parent >= len(states) {
-		return false
-	}
-	return states[parent].Kind == api.Parallel
-}
-
-func hasChild(states []State, parent int) bool {
-	for i := 0; i < len(states); i++ {
-		if states[i].Parent == parent && states[i].Kind != api.History {
-			return true
-		}
+		return o.FirstChild(i) == Nowhere
 	}
 	return false
 }

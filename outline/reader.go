@@ -11,10 +11,10 @@ type use struct {
 // reader goes through a text byte by byte. Its methods answer false where the
 // text is no chart; they stop there, so that at is then the place of the fault.
 type reader struct {
-	text   string
-	at     int
-	states []State
-	uses   []use
+	text  string
+	at    int
+	found Outline
+	uses  []use
 }
 
 // peek tells the next byte. At the text's end it is 0, which can stand nowhere in
@@ -41,7 +41,7 @@ func (r *reader) take(want byte) bool {
 
 func (r *reader) takeEvent() bool {
 	c := r.peek()
-	return r.skip(isEvent(c))
+	return r.skip(IsEvent(c))
 }
 
 func (r *reader) takeVariable() bool {
@@ -59,7 +59,7 @@ func (r *reader) chart() bool {
 	if c != '(' && c != '[' {
 		return false
 	}
-	ok := r.state(-1)
+	ok := r.state(Document)
 	if !ok {
 		return false
 	}
@@ -70,7 +70,7 @@ func (r *reader) chart() bool {
 func (r *reader) state(parent int) bool {
 	open := r.peek()
 	r.at++
-	self := len(r.states)
+	self := len(r.found.States)
 	ok := r.stateName(open, parent)
 	if !ok {
 		return false
@@ -92,7 +92,7 @@ func (r *reader) stateName(open byte, parent int) bool {
 		return false
 	}
 	kind := kindOf(open)
-	r.states = append(r.states, State{Name: c, At: r.at, Kind: kind, Parent: parent})
+	r.found.States = append(r.found.States, State{Name: c, At: r.at, Kind: kind, Parent: parent})
 	r.markParent(parent)
 	r.at++
 	return true
@@ -101,11 +101,11 @@ func (r *reader) stateName(open byte, parent int) bool {
 // markParent makes a state compound: only now, with a state among its items, is
 // it known not to be plain.
 func (r *reader) markParent(parent int) {
-	if parent < 0 || parent >= len(r.states) {
+	if parent < 0 || parent >= len(r.found.States) {
 		return
 	}
-	if r.states[parent].Kind == api.Plain {
-		r.states[parent].Kind = api.Compound
+	if r.found.States[parent].Kind == api.Plain {
+		r.found.States[parent].Kind = api.Compound
 	}
 }
 
@@ -118,9 +118,9 @@ func (r *reader) items(self int, closing byte) bool {
 		case '(', '[', '<', '*':
 			ok = r.state(self)
 		case ':':
-			ok = r.transition()
+			ok = r.transition(self)
 		case '^', '$':
-			ok = r.block()
+			ok = r.block(self)
 		default:
 			return r.take(closing)
 		}
@@ -131,27 +131,31 @@ func (r *reader) items(self int, closing byte) bool {
 }
 
 // transition is called where a ':' stands.
-func (r *reader) transition() bool {
+func (r *reader) transition(self int) bool {
 	r.at++
+	t := Transition{State: self, Trigger: r.peek()}
 	ok := r.trigger()
 	if !ok {
 		return false
 	}
-	ok = r.guard()
+	ok = r.guard(&t.Guard)
 	if !ok {
 		return false
 	}
-	ok = r.acts('>')
+	acts, ok := r.acts('>')
 	if !ok {
 		return false
 	}
+	t.Acts = acts
+	t.Target = r.peek()
+	r.found.Transitions = append(r.found.Transitions, t)
 	return r.target()
 }
 
 func (r *reader) trigger() bool {
 	c := r.peek()
 	r.noteUse(c)
-	return r.skip(c == '.' || isEvent(c) || isName(c))
+	return r.skip(c == '.' || IsEvent(c) || isName(c))
 }
 
 func (r *reader) target() bool {
@@ -166,91 +170,42 @@ func (r *reader) noteUse(c byte) {
 	}
 }
 
-// guard goes past a guard; none is as good.
-func (r *reader) guard() bool {
+// guard reads a guard; none is as good.
+func (r *reader) guard(g *Guard) bool {
 	asks := r.take('?')
 	if !asks {
 		return true
 	}
+	g.Variable = r.peek()
 	ok := r.takeVariable()
 	if !ok {
 		return false
 	}
 	c := r.peek()
+	g.Sign = c
 	ok = r.skip(c == '<' || c == '=' || c == '>')
 	if !ok {
 		return false
 	}
+	g.Digit = r.peekDigit()
 	return r.takeDigit('0')
+}
+
+// peekDigit tells the next byte's number, which means something only if it is a digit.
+func (r *reader) peekDigit() int {
+	c := r.peek()
+	return int(c) - '0'
 }
 
 // block is called where a '^' or a '$' stands.
-func (r *reader) block() bool {
+func (r *reader) block(self int) bool {
+	b := Block{State: self, Sign: r.peek()}
 	r.at++
-	return r.acts(';')
-}
-
-// acts reads up to the byte that stands behind them. It ends, as each turn goes
-// past a byte at least.
-func (r *reader) acts(closing byte) bool {
-	for {
-		ok := false
-		switch r.peek() {
-		case '!', '~', '#':
-			ok = r.eventAct()
-		case '@':
-			ok = r.timerAct()
-		case '+', '-', '=':
-			ok = r.variableAct()
-		default:
-			return r.take(closing)
-		}
-		if !ok {
-			return false
-		}
-	}
-}
-
-func (r *reader) eventAct() bool {
-	r.at++
-	return r.takeEvent()
-}
-
-func (r *reader) timerAct() bool {
-	r.at++
-	ok := r.takeEvent()
+	acts, ok := r.acts(';')
 	if !ok {
 		return false
 	}
-	return r.takeDigit('1')
-}
-
-func (r *reader) variableAct() bool {
-	r.at++
-	ok := r.takeVariable()
-	if !ok {
-		return false
-	}
-	return r.takeDigit('0')
-}
-
-func isName(c byte) bool {
-	return c >= 'A' && c <= 'Z'
-}
-
-func isEvent(c byte) bool {
-	return c >= 'a' && c <= 'z'
-}
-
-// kindOf takes round brackets for those of a plain state until a state is found in them.
-func kindOf(open byte) int {
-	switch open {
-	case '[':
-		return api.Parallel
-	case '<':
-		return api.Final
-	case '*':
-		return api.History
-	}
-	return api.Plain
+	b.Acts = acts
+	r.found.Blocks = append(r.found.Blocks, b)
+	return true
 }
