@@ -5,6 +5,7 @@ import (
 	"chart/api"
 	"chart/motion"
 	"chart/outline"
+	"chart/service"
 	"chart/stand"
 )
 
@@ -96,16 +97,30 @@ func read(text string, s api.State) standing {
 }
 
 // Service is a running chart that several clients share.
-type Service struct{}
+type Service struct {
+	running service.Service
+}
 
 // New makes a service (P9).
-func New(text string, clients int) (*Service, api.Errno) { return nil, api.OK }
+func New(text string, clients int) (*Service, api.Errno) {
+	running, e := service.New(text, clients)
+	if e != api.OK {
+		return nil, e
+	}
+	return &Service{running: running}, api.OK
+}
 
 // Ask lays down a client's request (P10).
-func (x *Service) Ask(u int, r api.Request) api.Errno { return api.OK }
+func (x *Service) Ask(u int, r api.Request) api.Errno {
+	return x.running.Ask(u, r)
+}
 
 // Step does the next small step of a client's request (P11).
-func (x *Service) Step(u int) (api.Reply, bool, api.Errno) { return api.Reply{}, false, api.OK }
+func (x *Service) Step(u int) (api.Reply, bool, api.Errno) {
+	return x.running.Step(u)
+}
 
 // Versions tells which versions are kept (P9).
-func (x *Service) Versions() []int { return nil }
+func (x *Service) Versions() []int {
+	return x.running.Versions()
+}

@@ -3,6 +3,7 @@ package chart_test
 import (
 	"fmt"
 
+	"chart/api"
 	"chart/chart"
 )
 
@@ -56,4 +57,23 @@ func ExampleWait() {
 	// RA "b2" ""
 	// RA "b1" ""
 	// RB "" "k"
+}
+
+func ExampleService() {
+	x, _ := chart.New("(R(A:a#k>B)(B:b#l>A))", 2)
+	x.Ask(0, api.Request{Kind: api.Send, Events: "ab", At: -1})
+	x.Ask(1, api.Request{Kind: api.Read, At: -1})
+	for _, u := range []int{0, 0, 1, 0, 1, 1} {
+		r, done, _ := x.Step(u)
+		fmt.Printf("%d %v %d %d %q %q\n", u, done, r.Version, r.Index, r.State.Active, r.Text)
+	}
+	fmt.Println(x.Versions())
+	// Output:
+	// 0 false 0 0 "" ""
+	// 0 false 0 0 "" ""
+	// 1 false 0 0 "" ""
+	// 0 true 1 2 "" "kl"
+	// 1 false 0 0 "" ""
+	// 1 true 0 0 "RA" ""
+	// [0 1]
 }
