@@ -173,7 +173,7 @@ func TestSweepOfServices(t *testing.T) {
 	t.Log(met)
 }
 
-// All orders in which a few clients can go: each one asks for what is on its list, and
+// All orders of the first deeds of a few clients: each one asks for what is on its list, and
 // steps as long as a request of it stands.
 func TestAllOrders(t *testing.T) {
 	const text = "(R:a#k+x1@d1>-:b#l=x0>-:d#d>-:f!f>-)"
